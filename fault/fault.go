@@ -90,8 +90,11 @@ func Text(e error) string {
 // unroll tells the words of all steps, and what is innermost.
 func unroll(e error) ([]string, error) {
 	var words []string
-	var s *step
-	for errors.As(e, &s) {
+	for {
+		var s *step
+		if !errors.As(e, &s) || s == nil {
+			break
+		}
 		words = append(words, s.word)
 		e = s.inside
 	}

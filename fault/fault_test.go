@@ -93,6 +93,19 @@ func TestWordsAndText(t *testing.T) {
 	}
 }
 
+// liar says that it is whatever it is asked for.
+type liar struct{}
+
+func (liar) Error() string { return "liar" }
+func (liar) As(any) bool   { return true }
+
+func TestLiar(t *testing.T) {
+	e := In("a", liar{})
+	if Code(e) != -1 || At(e) != 0 || !slices.Equal(Words(e), []string{"a"}) || Text(e) != "a: liar" {
+		t.Errorf("P1.1, P1.2: %d, %v, %q", Code(e), Words(e), Text(e))
+	}
+}
+
 func TestDeepChain(t *testing.T) {
 	e := New(2, 5, "x")
 	for range 1 << 14 {
