@@ -69,7 +69,7 @@ func TestAddGetRows(t *testing.T) {
 	if !same(u.Rows(), want) || u.Get(edge) != 3 || u.Get(of([]int{2})) != 0 || u.Get(of([]int{0, 0}, 1, 0)) != 0 {
 		t.Errorf("P16.1: %v", u.Rows())
 	}
-	u.Rows()[3].Pat.Labels[0] = 9
+	u.Rows()[3].Pat.Labels[0], u.Rows()[3].Pat.Edges[0] = 9, api.Edge{A: 7, B: 7}
 	if !same(u.Rows(), want) {
 		t.Error("P16.1: what is told is the caller's")
 	}

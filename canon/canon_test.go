@@ -159,7 +159,7 @@ func TestMap(t *testing.T) {
 			t.Errorf("P9.1: from %s to %s: %v, %v", pat.Text(p), pat.Text(q), got, may)
 		}
 	}
-	for _, q := range []api.Pat{of([]int{0, 0, 0}), of([]int{0, 1}, 0, 1), of([]int{0, 0}), {}} {
+	for _, q := range []api.Pat{of([]int{0, 0, 0}), of([]int{0, 0, 0}, 0, 1), of([]int{0, 1}, 0, 1), of([]int{0, 0}), {}} {
 		if order, ok := Map(of([]int{0, 0}, 0, 1), q); ok || order != nil {
 			t.Errorf("P9.1: %v", q)
 		}

@@ -176,6 +176,16 @@ func TestMachine(t *testing.T) {
 	}
 }
 
+func TestJobIsItsOwn(t *testing.T) {
+	j := level.Job{G: of(t, make([]int, 3), 0, 1, 1, 2), Depth: 2, Prog: prog.Prog{{Kind: prog.Size, N: 8}}}
+	e := must(t, j, 2)
+	j.Prog[0].N = 0
+	err := e.Run()
+	if levels, other := e.Levels(); err != nil || other != nil || len(levels) != 2 {
+		t.Errorf("P21.1: %v, %v", err, other)
+	}
+}
+
 func TestNil(t *testing.T) {
 	var e *Engine
 	levels, err := e.Levels()

@@ -192,6 +192,10 @@ func TestKeepsAndGrow(t *testing.T) {
 			}
 		}
 	}
+	clique := Job{G: of(t, make([]int, 3), 0, 1, 0, 2, 1, 2), Edges: true, Depth: 3, Prog: prog.Prog{{Kind: prog.Clique}}}
+	if !Keeps(clique, []int{2}) || Keeps(clique, []int{0, 1}) || Keeps(clique, []int{0, 1, 2}) {
+		t.Error("P18.1: what a list begins with must be kept")
+	}
 	path := of(t, make([]int, 12), 0, 1, 1, 2, 2, 3, 3, 4, 4, 5, 5, 6, 6, 7, 7, 8, 8, 9, 9, 10, 10, 11)
 	seven := []int{0, 1, 2, 3, 4, 5, 6}
 	j := Job{G: path, Edges: true, Depth: 8}

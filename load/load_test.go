@@ -84,6 +84,7 @@ func TestTextGraph(t *testing.T) {
 		{many.String(), 0},
 		{"v 0 0\nv 1 256\nv 2 999999\ne 0 0\n", 1},
 		{"v 0 0\nv 1 0\ne 0 1\ne 0 2\n", 3},
+		{"v 0 255\nv 1 0\ne 0 1\ne 1 0\n", 3},
 		{"v 0 0\nv 1 0\ne 0 1\ne 1 1\n", 3},
 		{"v 0 0\nv 1 0\ne 0 1\ne 1 0\n", 3},
 		{"e 0 1\n", 0},

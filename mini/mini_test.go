@@ -65,8 +65,8 @@ func TestNew(t *testing.T) {
 	if !same(d.Sets(), [][]int{nil, nil, nil}) || d.Support() != 0 || pat.Compare(d.Pat(), form) != 0 {
 		t.Error("P15.1: a new one")
 	}
-	d.Pat().Labels[0] = 99
-	if d.Pat().Labels[0] != 1 {
+	d.Pat().Labels[0], d.Pat().Edges[0], form.Labels[0], form.Edges[0] = 99, api.Edge{A: 7, B: 7}, 99, api.Edge{A: 7, B: 7}
+	if pat.Right(d.Pat()) != nil {
 		t.Error("P15.1: what is told is the caller's")
 	}
 	for i, c := range []struct {

@@ -116,6 +116,14 @@ func TestNextAndClone(t *testing.T) {
 	if !next.Quiet() || len(next.Flying()) != 0 || len(next.Inbox(1)) != 0 || !all(next.Send(0, 1, "c")) || next.Flying()[0].Seq != 0 || fault.Code(next.Send(0, 2, "")) != api.Range {
 		t.Error("P19.2: Next")
 	}
+	more := n.Clone()
+	if !all(more.Send(0, 1, "x"), more.Send(0, 1, "y")) {
+		t.Fatal("P19.2: sending")
+	}
+	flying := more.Flying()
+	if !all(more.Clone().Deliver(1)) || !slices.Equal(more.Flying(), flying) {
+		t.Error("P19.2: what a clone delivers")
+	}
 	c := n.Clone()
 	if c.Missing() != 1 || !slices.Equal(c.Flying(), n.Flying()) || !slices.Equal(c.Inbox(1), n.Inbox(1)) {
 		t.Error("P19.2: a clone is the same")

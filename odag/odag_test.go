@@ -135,6 +135,12 @@ func TestPathsAndCount(t *testing.T) {
 func TestPathsMayBeLeft(t *testing.T) {
 	o := must(t, 2, []int{1, 2}, []int{3, 2}, []int{3, 4})
 	paths := o.Paths()
+	for p := range paths {
+		if !slices.Equal(p, []int{1, 2}) {
+			t.Errorf("P13.1: %v", p)
+		}
+		break
+	}
 	for range 2 {
 		n := 0
 		for p := range paths {
@@ -197,6 +203,9 @@ func TestCountOverflow(t *testing.T) {
 	}
 	if n, err := cut.Count(); n != 0 || err != nil || slices.Collect(cut.Paths()) != nil {
 		t.Errorf("P13.1: what isn't reached: %d, %v", n, err)
+	}
+	if !bytes.Equal(cut.Bytes(), w.Bytes()) {
+		t.Error("P13.1: counting changes nothing")
 	}
 }
 
@@ -316,6 +325,9 @@ func TestReadErrors(t *testing.T) {
 	}
 	if o, err := Read(write(1, whole)); err != nil || len(o.Row(0)) != 1<<16 {
 		t.Errorf("P13.3: as many as may be: %v", err)
+	}
+	if o, err := Read(write(1, []int{math.MaxInt32})); err != nil || o.Row(0)[0] != math.MaxInt32 {
+		t.Errorf("P13.3: the greatest number: %v", err)
 	}
 	for i, c := range []struct {
 		b    []byte

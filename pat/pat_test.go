@@ -217,7 +217,12 @@ func TestLess(t *testing.T) {
 			t.Errorf("P8.2: %v", q)
 		}
 	}
-	if len(p.Edges) != 3 || p.Edges[1] != (api.Edge{A: 0, B: 2}) {
+	if q, err := Less(p, api.Edge{A: 1, B: 0}); err != nil || !same(q, of([]int{5, 6, 7}, 0, 2, 1, 2)) {
+		t.Errorf("P8.2: %v", q)
+	} else {
+		q.Labels[0], q.Edges[0] = 99, api.Edge{A: 7, B: 8}
+	}
+	if !same(p, of([]int{5, 6, 7}, 0, 1, 0, 2, 1, 2)) {
 		t.Error("P8.2: what is handed in stays")
 	}
 	for _, e := range edges(0, 0, 0, 3, -1, 1, math.MinInt, math.MaxInt) {

@@ -99,6 +99,16 @@ func TestTest(t *testing.T) {
 	}
 }
 
+func TestHandedInStays(t *testing.T) {
+	x := of([]int{3, 1, 2}, 0, 1, 0, 2)
+	for kind := range 10 {
+		Test(Op{Kind: kind}, x)
+	}
+	if pat.Compare(x, of([]int{3, 1, 2}, 0, 1, 0, 2)) != 0 {
+		t.Errorf("P17.1: %s", pat.Text(x))
+	}
+}
+
 func TestKeepsAndFirst(t *testing.T) {
 	p := Prog{{Size, 3}, {Labels, 5}, {Free, 0}}
 	for i, c := range []struct {

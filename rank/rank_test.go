@@ -178,6 +178,20 @@ func TestGreat(t *testing.T) {
 	}
 }
 
+func TestEachMayBeLeft(t *testing.T) {
+	_, r := must(t, 3, dense(3, 3)...)
+	for n := range int64(r.Total()) {
+		want, _ := r.At(n)
+		for p := range r.Each(Part{n, math.MaxInt64}) {
+			if !slices.Equal(p, want) {
+				t.Errorf("P14.1: %v, not %v", p, want)
+			}
+			clear(p)
+			break
+		}
+	}
+}
+
 func TestOverflow(t *testing.T) {
 	o, err := odag.Of(8, dense(8, 256))
 	if err != nil {

@@ -199,6 +199,19 @@ func TestUnpackErrors(t *testing.T) {
 	}
 }
 
+func TestUnpackShort(t *testing.T) {
+	p := Pack(3, nil)
+	for n := range p {
+		want := api.End
+		if n < 4 {
+			want = api.Form
+		}
+		if _, body, err := Unpack(slices.Clip(slices.Clone(p[:n]))); body != nil || !is(err, want, 0) {
+			t.Errorf("P3.3: %d bytes: %v", n, err)
+		}
+	}
+}
+
 func TestOneByteChanged(t *testing.T) {
 	p := Pack(3, []byte("some body of a parcel"))
 	for i := range p {
